@@ -1,0 +1,1 @@
+"""Toldreasons: puzzles with one answer, reached by told reasons."""
