@@ -92,6 +92,105 @@ raises NoReason()
 [None, None, ('question', (), ('cell', 0)), ('within', ((0, 0),), ())]
 >>> [judge_book(PAIR, 1, ((), ((0, 0), (1, 1)))), judge_book(PAIR, 1, None)]
 [('form',), ('form',)]
+# game
+>>> from toldreasons.game import answered_out, answerer_move, asked_out, asker_move, judge_game, longest_stand, winner
+>>> [winner(PAIR, 1, ((0, 1),)), winner(PAIR, 1, ()), asker_move(PAIR, 1, ((0, 1),)), answerer_move(PAIR, 1, (), ("rule", 0)), winner(TRIO, 2, ())]
+[('asker', 1), ('answerer',), (('rule', 0), ()), ((0, 0), (1, 1)), ('asker', 3)]
+>>> [asked_out(PAIR, 1, ((0, 1),), [3]), len(asked_out(TRIO, 2, (), [1])), len(longest_stand(TRIO, 2, ()))]
+[((('rule', 0), None, None),), 3, 3]
+>>> GAME = answered_out(PAIR, 1, (), [(2, 1), (1, 0)])
+>>> GAME
+((('rule', 0), ((0, 0), (1, 1)), ((0, 0),)), (('cell', 1), ((1, 1),), ()))
+>>> [judge_game(PAIR, 1, (), GAME), judge_game(PAIR, 1, (), GAME[1:]), judge_game(PAIR, 1, ((1, 0),), GAME), judge_game(PAIR, 1, (), ((("cell", 0), None, None),))]
+[None, None, ('filling', 0), ('filling', 0)]
+>>> answerer_move(PAIR, 1, ((0, 1),), ("cell", 0))
+raises IsLost()
+# strength
+>>> from toldreasons.strength import first_reason, hint, joined_chains, judge_strength, least_clash, least_solving, left_by, profile, strength_paper
+>>> from toldreasons.strength import struck_by, verdict
+>>> THREE = (((1, 2), (1, 2), (1, 2)), (("unlike", (0, 1)), ("unlike", (0, 2)), ("unlike", (1, 2))))
+>>> [verdict(THREE, 1), verdict(THREE, 2), least_clash(THREE), least_solving(THREE), left_by(THREE, 1), struck_by(THREE, 2)]
+[('open',), ('clash',), 2, None, ((1, 2), (1, 2), (1, 2)), ((0, 1), (0, 2), (1, 1), (1, 2), (2, 1), (2, 2))]
+>>> TOLD = (((1,), (1, 2), (1, 2, 3)), (("unlike", (0, 1)), ("unlike", (0, 1, 2))))
+>>> [verdict(TOLD, 1), least_solving(TOLD), least_clash(TOLD), struck_by(TOLD, 1), profile(TOLD, 1)]
+[('solved', (1, 2, 3)), 1, None, ((1, 1), (2, 1), (2, 2)), ((1, 3, 1, 'solved'),)]
+>>> [hint(THREE, 1), hint(TOLD, 1)[0], first_reason(TOLD, ((1, 1),), 1), first_reason(THREE, (), 1)]
+[None, ((1, 1), (2, 1), (2, 2)), (1, 1, (2, 1)), None]
+>>> [len(joined_chains(TOLD, 1, (((1, 1),), ((1, 1),)))), strength_paper(THREE)[:2], strength_paper(TOLD)[:3], strength_paper((((1, 2),), ()))]
+[1, ('clash', 2), ('solved', 1, (1, 2, 3)), ('several', (1,), (2,))]
+>>> [judge_strength(THREE, strength_paper(THREE)), judge_strength(TOLD, ("several", (1, 2, 3), (1, 2, 3))), judge_strength(TOLD, None)]
+[None, ('answer',), ('form',)]
+>>> [judge_strength(TOLD, ("solved", 1, (1, 2, 3), (), (), None)), judge_strength(THREE, ("clash", 2, strength_paper(THREE)[2], ()))]
+[('reach', ((1, 1),)), ('book', ('missing',))]
+# widths
+>>> from toldreasons.widths import along, bag_behind, bags_of, is_ties, judge_lots, judge_runaway, judge_width, least_width, lots_within
+>>> from toldreasons.widths import neighbours, runaway, taken_off, width_of, width_paper
+>>> RING = ((1, 3), (0, 2), (1, 3), (0, 2))
+>>> [is_ties(RING), is_ties(((1,), ())), taken_off(RING, 0, (0, 1, 2, 3)), bags_of(RING, (0, 1, 2, 3)), width_of(RING, (0, 1, 2, 3))]
+[True, False, ((), (2, 3), (1, 3), (1, 2)), ((0, (1, 3)), (1, (2, 3)), (2, (3,)), (3, ())), 2]
+>>> [bag_behind(RING, (0,), 1), bag_behind(RING, (0, 1), 2), least_width(RING), least_width(((1,), (0, 2), (1,))), least_width(())]
+[(2, 3), (3,), (2, (0, 1, 2, 3)), (1, (0, 1, 2)), (0, ())]
+>>> [lots_within(RING, 2), lots_within(((1,), (0, 2), (1,)), 1), lots_within(((1,), (0,)), 2), judge_lots(RING, 2, ((),)), judge_lots(RING, 3, ((),))]
+[((),), ((),), ((), (0,), (0, 1), (1,)), None, ('next', (), 0)]
+>>> [width_paper(((1,), (0,))), judge_width(RING, width_paper(RING)), judge_width(RING, (1, (0, 1, 2, 3), ())), judge_width((), (0, (), ()))]
+[(1, (0, 1), ((),)), None, ('width', 2), None]
+>>> [runaway(((1,), (0,)), 1), runaway(RING, 3), judge_runaway(RING, 2, runaway(RING, 2)), len(runaway(RING, 2))]
+[(((), (0, 1)), ((0,), (1,)), ((1,), (0,))), (), None, 13]
+>>> [judge_runaway(RING, 2, ()), judge_runaway(RING, 1, (((), (0, 1, 2, 3)),)), judge_runaway(RING, 1, (((), (0,)),))]
+[('form',), ('shut', 0, 0), ('stand', 0)]
+>>> PUZZLE = (((1, 2), (1, 2), (1, 2)), (("unlike", (0, 1)), ("unlike", (1, 2))))
+>>> [neighbours(PUZZLE), along(PUZZLE, (0, 1, 2), 2)]
+[((1,), (0, 2), (1,)), (1, 2, 1)]
+# live
+>>> from toldreasons.live import live_paper, live_plain, live_values, row_with
+>>> DOMAINS, UNLIKE = ((1, 2), (1, 2), (1, 2, 3)), ("unlike", (2, 0, 1))
+>>> [live_plain(DOMAINS, UNLIKE), live_values(DOMAINS, UNLIKE), row_with(DOMAINS, UNLIKE, 0, 2), row_with(DOMAINS, UNLIKE, 2, 1)]
+[((0, 1), (0, 2), (1, 1), (1, 2), (2, 3)), ((0, 1), (0, 2), (1, 1), (1, 2), (2, 3)), (3, 2, 1), None]
+>>> SUM, COUNT, BELOW = ("sum", (0, 1), 4, 9), ("count", (0, 1, 2), (3,), 1, 2), ("below", 2, 0)
+>>> [live_values(DOMAINS, SUM), live_values(DOMAINS, COUNT), live_values(DOMAINS, BELOW)]
+[((0, 2), (1, 2)), ((0, 1), (0, 2), (1, 1), (1, 2), (2, 3)), ((0, 2), (2, 1))]
+>>> [live_paper(DOMAINS, SUM, 0, 1), live_paper(DOMAINS, COUNT, 2, 1), live_paper(DOMAINS, BELOW, 2, 2), live_paper(((1,), ()), BELOW[:1] + (1, 0), 0, 1)]
+[('dead', 'sums', ((0,), (1, 2))), ('dead', 'count', 0, 0), ('dead', 'below'), ('dead', 'empty', 1)]
+>>> RUNS, JOINED = ("runs", (0, 1, 2), (2,)), ("joined", (0, 1, 2), ((0, 1), (1, 2)), (5,))
+>>> [live_values(((0, 1), (0, 1), (0,)), RUNS), live_paper(((0, 1), (0, 1), (0,)), RUNS, 0, 0)]
+[((0, 1), (1, 1), (2, 0)), ('dead', 'runs', (((0, 0),), ((0, 0),), ((0, 0), (0, 1)), ((0, 0),)))]
+>>> [live_values(((5,), (0, 5), (5,)), JOINED), live_paper(((5,), (0, 5), (5,)), JOINED, 1, 0)]
+[((0, 5), (1, 5), (2, 5)), ('dead', 'parted', (0,))]
+# judging
+>>> from toldreasons.judging import judge_live
+>>> [judge_live(DOMAINS, UNLIKE, 2, 1, ("dead", "lot", (0, 1), (2,))), judge_live(DOMAINS, UNLIKE, 2, 1, ("dead", "lot", (0,), (2,))), judge_live(DOMAINS, UNLIKE, 2, 1, live_paper(DOMAINS, UNLIKE, 2, 1))]
+[None, ('reason',), None]
+>>> [judge_live(DOMAINS, UNLIKE, 0, 2, ("live", (3, 2, 1))), judge_live(DOMAINS, UNLIKE, 0, 2, ("live", (3, 1, 2))), judge_live(DOMAINS, UNLIKE, 0, 2, ("live",))]
+[None, ('row',), ('form',)]
+>>> [judge_live(((5,), (0, 5), (5,)), JOINED, 1, 0, ("dead", "parted", (2,))), judge_live(((5,), (0, 5), (5,)), JOINED, 1, 5, ("dead", "parted", (2,)))]
+[None, ('reason',)]
+# leaving
+>>> from toldreasons.leaving import dead_strikes, judge_dead, live_domains
+>>> THREE = (0, 1, 2)
+>>> PUZZLE = ((THREE, THREE, THREE), (("unlike", (0, 1)), ("unlike", (1, 2)), ("unlike", (0, 2)), ("below", 0, 1)))
+>>> [live_domains(PUZZLE), dead_strikes(PUZZLE), live_domains(((THREE, ()), ())), dead_strikes(((THREE, ()), ()))]
+[((0, 1), (1, 2), (0, 1, 2)), ((3, 0, 2), (3, 1, 0)), ((), ()), ()]
+>>> [judge_dead(PUZZLE, ((3, 1, 0), (3, 0, 2))), judge_dead(PUZZLE, ((3, 0, 2),)), judge_dead(PUZZLE, ((3, 0, 2), (3, 0, 2))), judge_dead(PUZZLE, ((0, 0, 1),)), judge_dead(PUZZLE, None)]
+[None, ('more', 3, 1, 0), ('stands', 1), ('live', 0), ('form',)]
+# maker
+>>> from toldreasons.maker import clues_of, difference_lots, fewest_clues, judge_least, least_clues, made_all, needed_for, reaches, sure_clues
+>>> THREE = (0, 1, 2)
+>>> PUZZLE = ((THREE, THREE, THREE), (("unlike", (0, 1)), ("unlike", (1, 2)), ("unlike", (0, 2)), ("below", 0, 1)))
+>>> ANSWER, ONE = (0, 1, 2), ("one",)
+>>> [clues_of(ANSWER), reaches(PUZZLE, ((2, 2),), ONE), reaches(PUZZLE, ((0, 0),), ONE), reaches(PUZZLE, ((2, 2),), ("strength", 1))]
+[((0, 0), (1, 1), (2, 2)), True, False, True]
+>>> [least_clues(PUZZLE, ANSWER, (0, 1, 2), ONE), least_clues(PUZZLE, ANSWER, (2, 1, 0), ONE), least_clues(PUZZLE, ANSWER, (2, 0, 1), ONE)]
+[((2, 2),), ((1, 1),), ((1, 1),)]
+>>> [judge_least(PUZZLE, ANSWER, ONE, ((2, 2),)), judge_least(PUZZLE, ANSWER, ONE, ((0, 0),)), judge_least(PUZZLE, ANSWER, ONE, ((0, 0), (2, 2))), judge_least(PUZZLE, ANSWER, ONE, ((0, 1),))]
+[None, ('reach',), ('spare', 0), ('form',)]
+>>> [needed_for(PUZZLE, ((2, 2),), 2), difference_lots(PUZZLE, ANSWER), fewest_clues(PUZZLE, ANSWER, ONE), sure_clues(PUZZLE, ANSWER, ONE), made_all(PUZZLE, ANSWER, ONE)]
+[(0, 2, 1), ((1, 2),), ((1, 1),), (), (((1, 1),), ((2, 2),))]
+# hardness
+>>> from toldreasons.hardness import harder, hardest_clues, hardness, made_puzzle
+>>> [hardness(PUZZLE), hardness((((1,),), ())), harder(None, (3, 9)), harder((2, 1), (1, 9)), harder((1, 2), (1, 2))]
+[None, (1, 0), True, True, False]
+>>> [hardest_clues(PUZZLE, ANSWER), made_puzzle(PUZZLE, (0, 1, 2), ONE), made_puzzle((((),), ()), (0,), ONE)]
+[((1, 1),), (((2, 2),), (0, 1, 2), (1, 2)), None]
 '''
 
 
@@ -120,7 +219,7 @@ class ExamplesTest(unittest.TestCase):
             if expected:
                 many += 1
                 self.assertEqual([found], expected, statement)
-        self.assertEqual(many, 30)
+        self.assertEqual(many, 64)
 
 
 if __name__ == "__main__":

@@ -6,7 +6,9 @@ import inspect
 import unittest
 
 import made
-from toldreasons import answers, books, puzzles, reasons, rules, texts, trees
+from toldreasons import (
+    answers, books, game, hardness, judging, leaving, live, maker, puzzles, reasons, rules, strength, texts, trees, widths,
+)
 from toldreasons.errors import PuzzleError
 
 NAMES = {
@@ -29,6 +31,27 @@ NAMES = {
                " strength_in(chain); clashes(puzzle, k); clash_rounds(puzzle, k); read_off(puzzle, k, cell)",
     "books": "judge_book(puzzle, k, value); greatest_book(puzzle, k); book_of(puzzle, k, answers);"
              " both_books(one, other)",
+    "game": "judge_game(puzzle, k, start, value); asker_move(puzzle, k, position);"
+            " answerer_move(puzzle, k, position, question); winner(puzzle, k, position);"
+            " asked_out(puzzle, k, position, picks); answered_out(puzzle, k, position, asks);"
+            " longest_stand(puzzle, k, position)",
+    "strength": "left_by(puzzle, k); struck_by(puzzle, k); verdict(puzzle, k); least_clash(puzzle);"
+                " least_solving(puzzle); profile(puzzle, most); joined_chains(puzzle, k, parts); hint(puzzle, k);"
+                " first_reason(puzzle, known, most); strength_paper(puzzle); judge_strength(puzzle, value)",
+    "widths": "neighbours(puzzle); is_ties(value); taken_off(ties, cell, left); bags_of(ties, order);"
+              " width_of(ties, order); bag_behind(ties, gone, cell); least_width(ties); lots_within(ties, w);"
+              " judge_lots(ties, w, value); width_paper(ties); judge_width(ties, value); runaway(ties, w);"
+              " judge_runaway(ties, w, value); along(puzzle, order, k)",
+    "live": "live_plain(domains, rule); live_values(domains, rule); row_with(domains, rule, cell, value);"
+            " live_paper(domains, rule, cell, value)",
+    "judging": "judge_live(domains, rule, cell, value, paper)",
+    "leaving": "live_domains(puzzle); dead_strikes(puzzle); judge_dead(puzzle, value)",
+    "maker": "clues_of(answer); reaches(puzzle, clues, goal); least_clues(puzzle, answer, order, goal);"
+             " judge_least(puzzle, answer, goal, value); needed_for(puzzle, clues, cell);"
+             " difference_lots(puzzle, answer); fewest_clues(puzzle, answer, goal); sure_clues(puzzle, answer, goal);"
+             " made_all(puzzle, answer, goal)",
+    "hardness": "hardness(puzzle); harder(one, other); hardest_clues(puzzle, answer);"
+                " made_puzzle(puzzle, order, goal)",
 }
 
 P, PART, QUESTION = made.KINDS, ((0, 1), (2, 0)), ("rule", 2)
@@ -65,6 +88,48 @@ CALLS = [
     (reasons.read_off, made.PAIR, 1, 0), (books.judge_book, made.FREE, 2, BOOK), (books.judge_book, made.FREE, 2, ODD),
     (books.judge_book, made.FREE, 2, (tuple(ODD),)), (books.greatest_book, made.FREE, 2),
     (books.book_of, made.FREE, 2, [(1, 2), (2, 1)]), (books.both_books, BOOK, ((),)),
+]
+RING = ((1, 3), (0, 2), (1, 3), (0, 2))
+GAME = game.answered_out(made.PAIR, 1, (), [(2, 1), (1, 0)])
+ONE, BY_ONE = ("one",), ("strength", 1)
+SUM, RUNS = ("sum", (1, 0), 3, 9), ("runs", (2, 0), (1,))
+CALLS += [
+    (game.judge_game, made.PAIR, 1, (), GAME), (game.judge_game, made.PAIR, 1, (), ODD),
+    (game.judge_game, made.PAIR, 1, (), ((("rule", 0), ODD, ODD),)), (game.asker_move, made.TRIO, 2, ()),
+    (game.asker_move, made.FREE, 2, ()), (game.answerer_move, made.FREE, 2, (), ("rule", 0)),
+    (game.answerer_move, made.TRIO, 2, (), ("rule", 0)), (game.winner, made.TRIO, 2, ()), (game.winner, made.FREE, 2, ()),
+    (game.asked_out, made.TRIO, 2, (), [1, 3]), (game.asked_out, made.TRIO, 2, (), []),
+    (game.answered_out, made.FREE, 2, (), [(3, 4), (10 ** 6, 1)]), (game.longest_stand, made.TRIO, 2, ()),
+    (strength.left_by, P, 2), (strength.struck_by, made.PAIR, 1), (strength.verdict, made.TOLD, 1), (strength.verdict, made.TRIO, 2),
+    (strength.least_clash, made.TRIO), (strength.least_solving, made.TOLD), (strength.profile, made.TRIO, 2),
+    (strength.joined_chains, made.TRIO, 2, ((), ((0, 1),))), (strength.hint, made.PAIR, 1), (strength.hint, made.FREE, 1),
+    (strength.first_reason, made.PAIR, ((0, 1),), 2), (strength.strength_paper, made.TRIO),
+    (strength.strength_paper, made.TOLD), (strength.strength_paper, made.FREE),
+    (strength.judge_strength, made.TRIO, strength.strength_paper(made.TRIO)), (strength.judge_strength, made.TRIO, ODD),
+    (strength.judge_strength, made.TRIO, ("clash", 2, ODD, ODD)), (strength.judge_strength, made.TRIO, ("clash", 2, tuple(ODD), ())),
+    (widths.neighbours, P), (widths.is_ties, RING), (widths.is_ties, ODD), (widths.is_ties, tuple(ODD)),
+    (widths.taken_off, RING, 1, (0, 1, 2, 3)), (widths.bags_of, RING, (0, 2, 1, 3)), (widths.width_of, RING, (0, 2, 1, 3)),
+    (widths.bag_behind, RING, (0, 1), 2), (widths.least_width, RING), (widths.lots_within, RING, 3),
+    (widths.judge_lots, RING, 2, ((),)), (widths.judge_lots, RING, 2, tuple(ODD)), (widths.width_paper, RING),
+    (widths.judge_width, RING, widths.width_paper(RING)), (widths.judge_width, RING, (2, ODD, tuple(ODD))),
+    (widths.judge_width, RING, (2, (0, 1, 2, 3), tuple(ODD))), (widths.runaway, RING, 2),
+    (widths.judge_runaway, RING, 2, widths.runaway(RING, 2)), (widths.judge_runaway, RING, 2, ((ODD, ODD),)),
+    (widths.along, made.FREE, (1, 0), 2), (widths.along, made.TRIO, (0, 1, 2), 2),
+    (live.live_plain, P[0], P[1][0]), (live.live_values, P[0], P[1][6]), (live.row_with, P[0], P[1][2], 1, 2),
+    (live.row_with, P[0], P[1][4], 1, 0), (live.live_paper, P[0], P[1][4], 1, 0), (live.live_paper, P[0], SUM, 0, 0),
+    (live.live_paper, P[0], RUNS, 0, 0), (live.live_paper, P[0], P[1][1], 0, 1),
+    (judging.judge_live, P[0], SUM, 0, 0, live.live_paper(P[0], SUM, 0, 0)), (judging.judge_live, P[0], SUM, 0, 0, ODD),
+    (judging.judge_live, P[0], SUM, 0, 0, ("dead", "sums", ODD)), (judging.judge_live, P[0], SUM, 0, 0, ("live", tuple(ODD))),
+    (leaving.live_domains, P), (leaving.dead_strikes, P), (leaving.judge_dead, P, leaving.dead_strikes(P)),
+    (leaving.judge_dead, P, tuple(ODD)), (leaving.judge_dead, P, ()),
+    (maker.clues_of, (1, 2, 3)), (maker.reaches, made.FREE, ((0, 1),), ONE), (maker.reaches, made.FREE, ((0, 1),), BY_ONE),
+    (maker.least_clues, made.FREE, (1, 2), (0, 1), BY_ONE), (maker.judge_least, made.FREE, (1, 2), ONE, ((0, 1),)),
+    (maker.judge_least, made.FREE, (1, 2), ONE, tuple(ODD)), (maker.judge_least, made.FREE, (1, 2), ONE, ODD),
+    (maker.needed_for, made.FREE, ((0, 1),), 0), (maker.difference_lots, made.FREE, (1, 2)),
+    (maker.fewest_clues, made.FREE, (1, 2), ONE), (maker.sure_clues, made.FREE, (1, 2), ONE), (maker.made_all, made.FREE, (1, 2), ONE),
+    (hardness.hardness, made.TOLD), (hardness.hardness, made.FREE), (hardness.harder, (1, 2), None), (hardness.harder, (1, 2), (1, 3)),
+    (hardness.hardest_clues, made.FREE, (1, 2)), (hardness.made_puzzle, made.FREE, (0, 1), ONE),
+    (hardness.made_puzzle, made.TRIO, (0, 1, 2), ONE),
 ]
 
 
@@ -112,17 +177,26 @@ class NothingIsChangedTest(unittest.TestCase):
 
     def test_is_and_does_return_true_or_false(self):
         for call, *given in CALLS:
-            if call.__name__.startswith(("is_", "do_", "does_", "lies_")) or call.__name__ in ("fits", "clashes"):
+            if call.__name__.startswith(("is_", "do_", "does_", "lies_")) or call.__name__ in ("fits", "clashes", "reaches", "harder"):
                 self.assertIs(type(call(*given)), bool, call)
 
     def test_a_tuple_may_stand_for_a_list(self):
         self.assertEqual(books.book_of(made.FREE, 2, ((1, 2),)), books.book_of(made.FREE, 2, [(1, 2)]))
+        self.assertEqual(game.asked_out(made.TRIO, 2, (), (1, 3)), game.asked_out(made.TRIO, 2, (), [1, 3]))
+        asks = [(2, 1), (1, 0)]
+        self.assertEqual(game.answered_out(made.PAIR, 1, (), tuple(asks)), game.answered_out(made.PAIR, 1, (), asks))
 
     def test_judges_tell_nothing_of_right_values(self):
         self.assertIsNone(puzzles.judge_puzzle(P))
         self.assertIsNone(trees.judge_tree(P, TREE))
         self.assertIsNone(reasons.judge_chain(made.TRIO, 2, CHAIN))
         self.assertIsNone(books.judge_book(made.FREE, 2, BOOK))
+        self.assertIsNone(game.judge_game(made.PAIR, 1, (), GAME))
+        self.assertIsNone(strength.judge_strength(made.TRIO, strength.strength_paper(made.TRIO)))
+        self.assertIsNone(widths.judge_width(RING, widths.width_paper(RING)))
+        self.assertIsNone(widths.judge_runaway(RING, 2, widths.runaway(RING, 2)))
+        self.assertIsNone(leaving.judge_dead(P, leaving.dead_strikes(P)))
+        self.assertIsNone(maker.judge_least(made.FREE, (1, 2), ONE, ((0, 1),)))
 
 
 if __name__ == "__main__":

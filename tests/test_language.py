@@ -48,6 +48,45 @@ class LanguageTest(unittest.TestCase):
                     own = node.module.startswith("toldreasons.")
                     self.assertTrue(own or node.module in LIBRARY, (path, node.module))
 
+    def test_imports_are_used_and_defined_where_they_are_taken_from(self):
+        defined = {}
+        for path, tree in self.trees():
+            own = [node.name for node in tree.body if isinstance(node, (ast.FunctionDef, ast.ClassDef))]
+            defined[f"toldreasons.{path.stem}"] = own
+        for path, tree in self.trees():
+            used = {node.id for node in ast.walk(tree) if isinstance(node, ast.Name)}
+            for node in tree.body:
+                if isinstance(node, ast.ImportFrom):
+                    for name in node.names:
+                        self.assertIn(name.name, used, path)
+                        self.assertIn(name.name, defined.get(node.module, [name.name]), path)
+
+    def test_no_two_files_import_from_each_other(self):
+        taken = {}
+        for path, tree in self.trees():
+            modules = [node.module for node in tree.body if isinstance(node, ast.ImportFrom)]
+            taken[path.stem] = {module.partition(".")[2] for module in modules if module.startswith("toldreasons.")}
+        while taken:
+            free = [name for name, others in taken.items() if not others & set(taken)]
+            self.assertNotEqual(free, [], taken)
+            for name in free:
+                del taken[name]
+
+    def test_stars_stand_before_names(self):
+        for path, tree in self.trees():
+            for node in ast.walk(tree):
+                if isinstance(node, ast.Starred):
+                    self.assertIsInstance(node.value, (ast.Name, ast.Attribute, ast.Tuple, ast.List), (path, node.lineno))
+
+    def test_sets_stand_where_they_may(self):
+        for path, tree in self.trees():
+            for node in ast.walk(tree):
+                if isinstance(node, (ast.For, ast.comprehension)):
+                    is_call = isinstance(node.iter, ast.Call) and getattr(node.iter.func, "id", "") == "set"
+                    self.assertFalse(is_call or isinstance(node.iter, (ast.Set, ast.SetComp)), path)
+                if isinstance(node, (ast.Return, ast.Assign)):
+                    self.assertNotIsInstance(node.value, (ast.Set, ast.SetComp), path)
+
     def test_what_does_not_occur(self):
         for path, tree in self.trees():
             for node in ast.walk(tree):

@@ -137,8 +137,8 @@ def _rows_within(rule, domains):
     return [row for row in rule[2] if all([value in domain for value, domain in zip(row, domains)])]
 
 
-def _rule_rows(domains, rule):
-    """All tuples of values of the rule's cells, in its own order, that their domains let and that fit."""
+def rule_rows(domains, rule):
+    """All tuples of values of the rule's cells, in its own order, that their domains let and that fit, ascending."""
     own = [domains[cell] for cell in cells_of(rule)]
     # A table may have thousands of rows: to look for each choice among them would take long.
     if rule[0] == "table":
@@ -153,7 +153,7 @@ def fillings(puzzle, question):
         return tuple([((number, value),) for value in puzzle[0][number]])
     rule = puzzle[1][number]
     cells = cells_of(rule)
-    found = [tuple(sorted(zip(cells, row))) for row in _rule_rows(puzzle[0], rule)]
+    found = [tuple(sorted(zip(cells, row))) for row in rule_rows(puzzle[0], rule)]
     return tuple(sorted(found))
 
 

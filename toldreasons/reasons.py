@@ -97,37 +97,74 @@ def round_of(puzzle, k, part):
     return reasons[part][0]
 
 
-def _earliest_within(f, k, reasons):
-    """Of the no-goods that lie in f one of the least round."""
-    found = [piece for piece in pieces_of(f, k) if piece in reasons]
-    rounds = [reasons[piece][0] for piece in found]
-    return found[rounds.index(min(rounds))]
+class Reasons:
+    """The no-goods of strength k of a puzzle, and what is used by the step of each of them."""
 
+    def __init__(self, puzzle, k):
+        self.k = k
+        self.told = told_reasons(puzzle, k)
+        self.asked = {question: fillings(puzzle, question) for question in questions(puzzle)}
+        self.used = {}
 
-def _needs(part, k, reasons, told):
-    """The no-goods that a no-good's step uses, one for each agreeing filling of its question."""
-    agreed = [t for t in told[reasons[part][1]] if do_agree(part, t)]
-    return [_earliest_within(both_of(part, t), k, reasons) for t in agreed]
+    def is_struck(self, part):
+        """Whether a part of at most k pairs is a no-good."""
+        return part in self.told
+
+    def round_at(self, part):
+        """The round of a no-good."""
+        return self.told[part][0]
+
+    def question_at(self, part):
+        """The first question that strikes a no-good in its round."""
+        return self.told[part][1]
+
+    def agreed(self, part, question):
+        """The fillings of a question that agree with a part, ascending."""
+        return [t for t in self.asked[question] if do_agree(part, t)]
+
+    def struck_in(self, f):
+        """The no-goods that lie in f, in the sequence of pieces_of."""
+        return [piece for piece in pieces_of(f, self.k) if piece in self.told]
+
+    def _earliest_in(self, f):
+        found = self.struck_in(f)
+        rounds = [self.round_at(piece) for piece in found]
+        return found[rounds.index(min(rounds))]
+
+    def needs(self, part):
+        """The no-goods that a no-good's step uses: for each agreeing filling the first one of the least round."""
+        if part not in self.used:
+            agreed = self.agreed(part, self.question_at(part))
+            self.used[part] = tuple([self._earliest_in(both_of(part, t)) for t in agreed])
+        return self.used[part]
+
+    def _all_needed(self, part):
+        """The no-good and all that its chain needs, by rounds and then ascending."""
+        needed = {part: True}
+        waiting = [part]
+        while waiting:
+            wanted = waiting.pop()
+            for need in self.needs(wanted):
+                if need not in needed:
+                    needed[need] = True
+                    waiting.append(need)
+        return [no_good for _, no_good in sorted([(self.round_at(no_good), no_good) for no_good in needed])]
+
+    def chain(self, part):
+        """A chain to a no-good, in the least rounds."""
+        # A step uses no-goods of lesser rounds alone, so they stand ahead of it.
+        steps = self._all_needed(part)
+        numbers = {wanted: i for i, wanted in enumerate(steps)}
+        uses = [tuple([numbers[need] for need in self.needs(wanted)]) for wanted in steps]
+        return tuple([(wanted, self.question_at(wanted), uses[i]) for i, wanted in enumerate(steps)])
 
 
 def chain_for(puzzle, k, part):
     """A chain of strength k to a no-good, in the least rounds; raises NoReason if it is none."""
-    reasons = told_reasons(puzzle, k)
-    if part not in reasons:
+    reasons = Reasons(puzzle, k)
+    if not reasons.is_struck(part):
         raise NoReason()
-    told = {question: fillings(puzzle, question) for question in questions(puzzle)}
-    needs = {}
-    waiting = [part]
-    while waiting:
-        wanted = waiting.pop()
-        if wanted not in needs:
-            needs[wanted] = _needs(wanted, k, reasons, told)
-            waiting.extend(needs[wanted])
-    # A step uses no-goods of lesser rounds alone, so they stand ahead of it.
-    steps = sorted([(reasons[wanted][0], wanted) for wanted in needs])
-    numbers = {wanted: i for i, (_, wanted) in enumerate(steps)}
-    uses = {wanted: tuple([numbers[need] for need in needs[wanted]]) for wanted in numbers}
-    return tuple([(wanted, reasons[wanted][1], uses[wanted]) for wanted in numbers])
+    return reasons.chain(part)
 
 
 def chain_rounds(chain):

@@ -124,8 +124,8 @@ def _partners(ties, cell):
     return [b for a, b in ties if a == cell] + [a for a, b in ties if b == cell]
 
 
-def _are_joined(marked, ties):
-    """Whether ways over ties lead from the first marked cell to all others, through marked cells alone."""
+def joined_to_first(marked, ties):
+    """The marked cells to which ways over ties lead from the first one of them, through marked cells alone."""
     reached = {cell: True for cell in marked[:1]}
     waiting = marked[:1]
     while waiting:
@@ -134,7 +134,7 @@ def _are_joined(marked, ties):
             if other in marked and other not in reached:
                 reached[other] = True
                 waiting.append(other)
-    return len(reached) == len(marked)
+    return list(reached)
 
 
 def fits(rule, values):
@@ -152,7 +152,8 @@ def fits(rule, values):
         return values[0] < values[1]
     if word == "runs":
         return _stretches(values) == rule[2]
-    return _are_joined([cell for cell, value in zip(rule[1], values) if value in rule[3]], rule[2])
+    marked = [cell for cell, value in zip(rule[1], values) if value in rule[3]]
+    return len(joined_to_first(marked, rule[2])) == len(marked)
 
 
 def values_under(rule, values):
