@@ -191,6 +191,110 @@ raises IsLost()
 [None, (1, 0), True, True, False]
 >>> [hardest_clues(PUZZLE, ANSWER), made_puzzle(PUZZLE, (0, 1, 2), ONE), made_puzzle((((),), ()), (0,), ONE)]
 [((1, 1),), (((2, 2),), (0, 1, 2), (1, 2)), None]
+# alike
+>>> from toldreasons.alike import all_values, find_leading, judge_leading, led, led_after, led_answer, led_back, led_part, plain, standing
+>>> PUZZLE = (((1, 2), (1, 2), (1, 2, 3)), (("unlike", (0, 1, 2)), ("below", 0, 1)))
+>>> OPEN = (((1, 2), (1, 2)), (("unlike", (0, 1)),))
+>>> [plain(PUZZLE)[1], plain(OPEN), all_values(PUZZLE)]
+[(('table', (0, 1), ((1, 2),)), ('table', (0, 1, 2), ((1, 2, 3), (2, 1, 3)))), (((1, 2), (1, 2)), (('table', (0, 1), ((1, 2), (2, 1))),)), (1, 2, 3)]
+>>> ROUND = ((1, 2, 0), ((1, 5), (2, 0), (3, 7)))
+>>> [led_part(ROUND, ((0, 1), (2, 3))), led_answer(ROUND, (1, 2, 3)), led(PUZZLE, ROUND)[0], led(PUZZLE, ROUND)[1][1]]
+[((0, 7), (1, 5)), (7, 5, 0), ((0, 5, 7), (0, 5), (0, 5)), ('table', (1, 2), ((5, 0),))]
+>>> [led_back(ROUND), led_after(ROUND, led_back(ROUND)) == standing(PUZZLE), led(led(PUZZLE, ROUND), led_back(ROUND)) == plain(PUZZLE)]
+[((2, 0, 1), ((0, 2), (5, 1), (7, 3))), True, True]
+>>> [find_leading(PUZZLE, OPEN), judge_leading(PUZZLE, led(PUZZLE, ROUND), find_leading(PUZZLE, led(PUZZLE, ROUND)))]
+[None, None]
+>>> [judge_leading(OPEN, OPEN, ((1, 0), ((1, 1), (2, 2)))), judge_leading(PUZZLE, OPEN, standing(PUZZLE)), judge_leading(PUZZLE, PUZZLE, ((1, 0, 2), ((1, 1), (2, 2), (3, 3)))), judge_leading(OPEN, OPEN, ((0, 0), ()))]
+[None, ('cells',), ('table', (0, 1)), ('form',)]
+# symmetry
+>>> from toldreasons.symmetry import cell_lots, least_form, least_leading, own_leadings, own_turns, standing_pairs, turned, turned_cells, unlike_answers
+>>> own_leadings(OPEN)
+(((0, 1), ((1, 1), (2, 2))), ((0, 1), ((1, 2), (2, 1))), ((1, 0), ((1, 1), (2, 2))), ((1, 0), ((1, 2), (2, 1))))
+>>> [cell_lots(OPEN), cell_lots(PUZZLE), unlike_answers(OPEN), standing_pairs(OPEN), least_form(OPEN), len(own_leadings(PUZZLE))]
+[((0, 1),), ((0, 1), (2,)), ((1, 2),), 4, (((0, 1), (0, 1)), (('table', (0, 1), ((0, 1), (1, 0))),)), 2]
+>>> [led(OPEN, least_leading(OPEN)) == least_form(OPEN), least_form(led(PUZZLE, ROUND)) == least_form(PUZZLE)]
+[True, True]
+>>> [turned_cells(3, 2, "left"), turned_cells(3, 2, "other"), len(own_turns((((1, 2),), ()), 1, 1))]
+[(4, 2, 0, 5, 3, 1), (5, 3, 1, 4, 2, 0), 8]
+>>> [turned_cells(3, 2, "right"), turned_cells(3, 2, "across"), own_turns(OPEN, 2, 1), turned(OPEN, 2, 1, "right") == plain(OPEN)]
+[(1, 3, 5, 0, 2, 4), (2, 1, 0, 5, 4, 3), ('same', 'half', 'across', 'down'), True]
+# kinds
+>>> from toldreasons.kinds import box_lots, boxed, cell_at, cells_about, column_cells, mined, painted, place_of, roaded, row_cells, side_ties, signed, squares, summed
+>>> [cell_at((2, 3), 1, 2), place_of((2, 3), 5), row_cells((2, 3), 1), column_cells((2, 3), 0), box_lots((2, 4), 2, 2), side_ties((2, 2)), cells_about((2, 3), 0)]
+[5, (1, 2), (3, 4, 5), (0, 3), ((0, 1, 4, 5), (2, 3, 6, 7)), ((0, 1), (0, 2), (1, 3), (2, 3)), (1, 3, 4)]
+>>> squares(2)
+(((1, 2), (1, 2), (1, 2), (1, 2)), (('unlike', (0, 1)), ('unlike', (2, 3)), ('unlike', (0, 2)), ('unlike', (1, 3))))
+>>> [boxed(1, 2)[1][4:], signed(2, ((0, 1),))[1][4:], boxed(2, 2)[1][8]]
+[(('unlike', (0, 1)), ('unlike', (2, 3))), (('below', 0, 1),), ('unlike', (0, 1, 4, 5))]
+>>> summed((1, 2), 3, (((0, 1), 4),))
+(((1, 2, 3), (1, 2, 3)), (('unlike', (0, 1)), ('sum', (0, 1), 4, 4)))
+>>> [painted((1, 2), ((1,),), ((1,), ())), mined((1, 2), ((0, 1),)), mined((1, 1), ((0, 0),))]
+[(((0, 1), (0, 1)), (('runs', (0, 1), (1,)), ('runs', (0,), (1,)), ('runs', (1,), ()))), (((0,), (0, 1)), (('count', (1,), (1,), 1, 1),)), (((0,),), ())]
+>>> roaded((1, 2), (2,), (1, 1))
+(((0, 1), (0, 1)), (('count', (0, 1), (1,), 2, 2), ('count', (0,), (1,), 1, 1), ('count', (1,), (1,), 1, 1), ('joined', (0, 1), ((0, 1),), (1,))))
+# grids
+>>> from toldreasons.grids import lots_shown, mined_by, painted_by, read_lots, read_shown, roaded_by, run_lengths, shown, signed_by, summed_by
+>>> [run_lengths((1, 1, 0, 2)), run_lengths(()), painted_by((2, 2), (1, 1, 0, 1)), roaded_by((2, 2), (1, 1, 0, 1)), mined_by((2, 2), (1, 1, 0, 1))]
+[(2, 1), (), (((2,), (1,)), ((1,), (2,))), ((2, 1), (1, 2)), ((2, 3),)]
+>>> [summed_by(((0, 1), (2,)), (1, 2, 3)), signed_by(2, (1, 2, 2, 1))]
+[(((0, 1), 3), ((2,), 3)), ((0, 1), (0, 2), (3, 1), (3, 2))]
+>>> [shown((2, 2), (1, None, 12, 0)), read_shown((2, 2), "1 .\n12 0"), read_shown((2, 2), "1 .\n12"), read_shown((1, 1), "01")]
+['1 .\n12 0', (1, None, 12, 0), None, None]
+>>> [lots_shown((2, 2), ((0, 3), (1,))), read_lots((2, 2), "ab\n.a"), read_lots((2, 2), "ac\n.a"), read_lots((1, 2), "..")]
+['ab\n.a', ((0, 3), (1,)), None, ()]
+# counting
+>>> from toldreasons.counting import answer_of_number, cell_table, count_by, is_one, judge_steps, number_of_answer, only_at, put_together, rule_table, shares_by, steps_of, sure_values, summed_off, widest_lot
+>>> PUZZLE = (((1, 2), (1, 2), (1, 2, 3)), (("unlike", (0, 1)), ("below", 1, 2)))
+>>> [cell_table(PUZZLE, 0), rule_table(PUZZLE, 1)]
+[((0,), (((1,), 1), ((2,), 1))), ((1, 2), (((1, 2), 1), ((1, 3), 1), ((2, 3), 1)))]
+>>> BOTH = put_together(rule_table(PUZZLE, 0), rule_table(PUZZLE, 1))
+>>> [BOTH, summed_off(BOTH, 1), summed_off(summed_off(BOTH, 2), 0)]
+[((0, 1, 2), (((1, 2, 3), 1), ((2, 1, 2), 1), ((2, 1, 3), 1))), ((0, 2), (((1, 3), 1), ((2, 2), 1), ((2, 3), 1))), ((1,), (((1,), 2), ((2,), 1)))]
+>>> steps_of(PUZZLE, (0, 2, 1))
+((0, (0, 1), ((1,), (((1,), 1), ((2,), 1)))), (2, (1, 2), ((1,), (((1,), 2), ((2,), 1)))), (1, (1,), ((), (((), 3),))))
+>>> [count_by(PUZZLE, (0, 2, 1)), count_by(PUZZLE, (1, 0, 2)), widest_lot(PUZZLE, (0, 2, 1)), widest_lot(PUZZLE, (1, 0, 2))]
+[3, 3, 2, 3]
+>>> [[answer_of_number(PUZZLE, (0, 1, 2), number) for number in range(4)], number_of_answer(PUZZLE, (2, 1, 0), (2, 1, 3)), number_of_answer(PUZZLE, (2, 1, 0), (1, 1, 2))]
+[[(1, 2, 3), (2, 1, 2), (2, 1, 3), None], 2, None]
+>>> [shares_by(PUZZLE, (0, 1, 2))[2], sure_values(only_at(PUZZLE, 0, [1]), (0, 1, 2)), is_one(PUZZLE, (0, 1, 2)), only_at(PUZZLE, 2, [3, 9])[0]]
+[((1, 0), (2, 1), (3, 2)), ((0, 1), (1, 2), (2, 3)), False, ((1, 2), (1, 2), (3,))]
+>>> [judge_steps(PUZZLE, (0, 2, 1), steps_of(PUZZLE, (0, 2, 1))), judge_steps(PUZZLE, (0, 2, 1), ()), judge_steps(PUZZLE, (0, 2, 1), steps_of(PUZZLE, (0, 2, 1))[:2] + ((1, (1,), ((), (((), 4),))),))]
+[None, ('form',), ('step', 2)]
+# marks
+>>> from toldreasons.marks import answers_left, cut_puzzle, done, easiest, hinted, is_deed, is_finished, is_right, led_by_hints, new_board, progress, redone, stuck, tale, undone, why_struck, wrong_marks
+>>> PUZZLE = (((1, 2), (1, 2), (2,)), (("unlike", (0, 1)), ("below", 1, 2)))
+>>> first = new_board(PUZZLE)
+>>> [first["marks"], answers_left(first), progress(first), easiest(first), is_deed(first, ("strike", 0, 1)), is_deed(first, ("raise", 0, 1))]
+[((1, 2), (1, 2), (2,)), [(2, 1, 2)], (5, 1, 0), (0, 1), True, False]
+>>> late = done(first, ("strike", 0, 2))
+>>> [late["marks"], wrong_marks(late), is_right(late), answers_left(late), undone(late)["back"], redone(undone(late)) == late]
+[((1,), (1, 2), (2,)), ((0, 2),), False, [], (('strike', 0, 2),), True]
+>>> told = led_by_hints(first, 1)
+>>> [told["marks"], told["log"], is_finished(told), stuck(told, 1), tale(told)]
+[((2,), (1,), (2,)), (('strike', 1, 2), ('strike', 0, 1)), True, False, [(('strike', 1, 2), 1), (('strike', 0, 1), 1)]]
+>>> [why_struck(first, 1, 2, 2)[0], why_struck(first, 1, 1, 2), hinted(told, 1) == told, cut_puzzle(told)[0]]
+[1, None, True, ((2,), (1,), (2,))]
+# deeds
+>>> from toldreasons.deeds import deed_text, log_text, read_deed, read_log
+>>> [deed_text(("set", 5, 12)), read_deed("strike 0 2"), log_text((("strike", 0, 2), ("raise", 0, 2))), read_log("set 1 1\nstrike 0 3"), log_text(()), read_log("")]
+['set 5 12', ('strike', 0, 2), 'strike 0 2\nraise 0 2', (('set', 1, 1), ('strike', 0, 3)), '', ()]
+>>> read_deed("strive 0 2")
+raises BadText(4)
+# house
+>>> from toldreasons.house import House
+>>> PUZZLE = (((1, 2), (1, 2), (1, 2, 3)), (("unlike", (0, 1, 2)), ("below", 0, 1)))
+>>> house = House(PUZZLE)
+>>> [house.left(), house.set_part(), house.do(("strike", 0, 1)), house.wrong(), house.finished(), house.undo(), house.redo(), house.undo(), house.progress()]
+[1, (), 1, ((0, 1),), False, 0, 1, 0, (7, 0, 0)]
+>>> [house.lead(2) == len(house.deeds()), house.finished(), house.set_part(), house.standing(), house.wrong(), house.easiest()]
+[True, True, ((0, 1), (1, 2), (2, 3)), ((1,), (2,), (3,)), (), ()]
+# desk
+>>> from toldreasons.desk import Desk
+>>> desk = Desk(PUZZLE, 2)
+>>> [desk.say("grid"), desk.say("set 0 2"), desk.say("grid"), desk.say("wrong"), desk.say("left"), desk.say("undo"), desk.say("undo"), desk.say("redo")]
+['. .\n.', '1', '2 .\n.', '0 1', '0', '0', 'refused', '1']
+>>> [desk.say("marks").split("\n"), desk.say("strike 0 2"), desk.say("strike 0 1"), desk.say("easiest"), desk.say("log"), desk.say("puzzle").split("\n")[3], desk.say(None)]
+[['0: 2', '1: 1 2', '2: 1 2 3'], '2', 'what', '1', 'set 0 2\nstrike 0 2', 'unlike 0 1 2', 'what']
 '''
 
 
@@ -219,7 +323,7 @@ class ExamplesTest(unittest.TestCase):
             if expected:
                 many += 1
                 self.assertEqual([found], expected, statement)
-        self.assertEqual(many, 64)
+        self.assertEqual(many, 101)
 
 
 if __name__ == "__main__":

@@ -7,7 +7,8 @@ import unittest
 
 import made
 from toldreasons import (
-    answers, books, game, hardness, judging, leaving, live, maker, puzzles, reasons, rules, strength, texts, trees, widths,
+    alike, answers, books, game, grids, hardness, judging, kinds, leaving, live, maker, puzzles, reasons, rules, strength,
+    symmetry, texts, trees, widths,
 )
 from toldreasons.errors import PuzzleError
 
@@ -52,6 +53,19 @@ NAMES = {
              " made_all(puzzle, answer, goal)",
     "hardness": "hardness(puzzle); harder(one, other); hardest_clues(puzzle, answer);"
                 " made_puzzle(puzzle, order, goal)",
+    "alike": "plain(puzzle); all_values(puzzle); led_part(leading, part); led_answer(leading, answer);"
+             " led(puzzle, leading); led_after(leading, late); led_back(leading); standing(puzzle);"
+             " find_leading(one, other); judge_leading(one, other, value)",
+    "symmetry": "own_leadings(puzzle); cell_lots(puzzle); unlike_answers(puzzle); standing_pairs(puzzle);"
+                " least_form(puzzle); least_leading(puzzle); turned_cells(w, h, turn); turned(puzzle, w, h, turn);"
+                " own_turns(puzzle, w, h)",
+    "kinds": "cell_at(grid, r, c); place_of(grid, cell); row_cells(grid, r); column_cells(grid, c);"
+             " box_lots(grid, tall, wide); side_ties(grid); cells_about(grid, cell); squares(size); boxed(tall, wide);"
+             " signed(size, pairs); summed(grid, most, lots); painted(grid, rows, columns); mined(grid, told);"
+             " roaded(grid, rows, columns)",
+    "grids": "run_lengths(values); painted_by(grid, values); roaded_by(grid, values); mined_by(grid, values);"
+             " summed_by(lots, values); signed_by(size, values); shown(grid, values); read_shown(grid, text);"
+             " lots_shown(grid, lots); read_lots(grid, text)",
 }
 
 P, PART, QUESTION = made.KINDS, ((0, 1), (2, 0)), ("rule", 2)
@@ -131,6 +145,26 @@ CALLS += [
     (hardness.hardest_clues, made.FREE, (1, 2)), (hardness.made_puzzle, made.FREE, (0, 1), ONE),
     (hardness.made_puzzle, made.TRIO, (0, 1, 2), ONE),
 ]
+ROUND = ((1, 2, 0), ((1, 5), (2, 0), (3, 7)))
+CALLS += [
+    (alike.plain, P), (alike.all_values, P), (alike.led_part, ROUND, ((0, 1), (2, 3))), (alike.led_answer, ROUND, (1, 2, 3)),
+    (alike.led, made.TOLD, ROUND), (alike.led_after, ROUND, alike.led_back(ROUND)), (alike.led_back, ROUND),
+    (alike.standing, made.TOLD), (alike.find_leading, made.TOLD, alike.led(made.TOLD, ROUND)),
+    (alike.find_leading, made.TOLD, made.FREE), (alike.judge_leading, made.TOLD, made.FREE, alike.standing(made.TOLD)),
+    (alike.judge_leading, made.TOLD, made.TOLD, ODD), (alike.judge_leading, made.TOLD, made.TOLD, (ODD, ODD)),
+    (alike.judge_leading, made.TOLD, made.TOLD, ((0, 1, 2), tuple(ODD[:3]))),
+    (symmetry.own_leadings, made.FREE), (symmetry.cell_lots, made.TOLD), (symmetry.unlike_answers, made.FREE),
+    (symmetry.standing_pairs, made.FREE), (symmetry.least_form, made.TOLD), (symmetry.least_leading, made.TOLD),
+    (symmetry.turned_cells, 3, 2, "left"), (symmetry.turned, made.FREE, 2, 1, "right"), (symmetry.own_turns, made.FREE, 2, 1),
+    (kinds.cell_at, (2, 3), 1, 2), (kinds.place_of, (2, 3), 5), (kinds.row_cells, (2, 3), 1), (kinds.column_cells, (2, 3), 0),
+    (kinds.box_lots, (2, 4), 2, 2), (kinds.side_ties, (2, 2)), (kinds.cells_about, (2, 3), 0), (kinds.squares, 3),
+    (kinds.boxed, 2, 2), (kinds.signed, 2, ((0, 1),)), (kinds.summed, (1, 2), 3, (((0, 1), 4),)),
+    (kinds.painted, (1, 2), ((1,),), ((1,), ())), (kinds.mined, (1, 2), ((0, 1),)), (kinds.roaded, (1, 2), (2,), (1, 1)),
+    (grids.run_lengths, (1, 1, 0, 2)), (grids.painted_by, (2, 2), (1, 1, 0, 1)), (grids.roaded_by, (2, 2), (1, 1, 0, 1)),
+    (grids.mined_by, (2, 2), (1, 1, 0, 1)), (grids.summed_by, ((0, 1), (2,)), (1, 2, 3)), (grids.signed_by, 2, (1, 2, 2, 1)),
+    (grids.shown, (2, 2), (1, None, 12, 0)), (grids.read_shown, (2, 2), "1 .\n12 0"), (grids.read_shown, (2, 2), ODD),
+    (grids.lots_shown, (2, 2), ((0, 3), (1,))), (grids.read_lots, (2, 2), "ab\n.a"), (grids.read_lots, (2, 2), ODD),
+]
 
 
 def told(call, given):
@@ -197,6 +231,7 @@ class NothingIsChangedTest(unittest.TestCase):
         self.assertIsNone(widths.judge_runaway(RING, 2, widths.runaway(RING, 2)))
         self.assertIsNone(leaving.judge_dead(P, leaving.dead_strikes(P)))
         self.assertIsNone(maker.judge_least(made.FREE, (1, 2), ONE, ((0, 1),)))
+        self.assertIsNone(alike.judge_leading(made.TOLD, alike.led(made.TOLD, ROUND), ROUND))
 
 
 if __name__ == "__main__":

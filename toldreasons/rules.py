@@ -106,7 +106,7 @@ def is_rule(value, n):
     return is_rest(value)
 
 
-def _stretches(values):
+def stretches(values):
     """The lengths of the runs of values other than 0, in order."""
     lengths = []
     ahead = 0
@@ -151,7 +151,7 @@ def fits(rule, values):
     if word == "below":
         return values[0] < values[1]
     if word == "runs":
-        return _stretches(values) == rule[2]
+        return stretches(values) == rule[2]
     marked = [cell for cell, value in zip(rule[1], values) if value in rule[3]]
     return len(joined_to_first(marked, rule[2])) == len(marked)
 
