@@ -1,4 +1,4 @@
-"""The languages of [2.1] and [2.3] as sets of states, so that the longest beginning can be told without reading.
+"""The languages of [2.1], [2.3] and [14.1] as sets of states, so that the longest beginning can be told without reading.
 
 A pattern is a function that takes the number of a state behind it and returns the one
 ahead of it; every state leads to an end, so a beginning is one of some text exactly if
@@ -132,3 +132,16 @@ def grid_place(text):
     """As Language.place, of grids of at most eight columns."""
     places = [language.place(text) for language in GRIDS]
     return None if None in places else max(places)
+
+
+def deed_pattern(made):
+    words = made.either(made.text("strike "), made.text("raise "), made.text("set "))
+    return made.chain(words, made.number(), made.text(" "), made.number())
+
+
+def log_pattern(made):
+    return made.maybe(made.listed(deed_pattern(made), "\n"))
+
+
+DEED = Language(deed_pattern)
+LOG = Language(log_pattern)

@@ -7,8 +7,8 @@ import unittest
 
 import made
 from toldreasons import (
-    alike, answers, books, game, grids, hardness, judging, kinds, leaving, live, maker, puzzles, reasons, rules, strength,
-    symmetry, texts, trees, widths,
+    alike, answers, books, counting, deeds, desk, errors, game, grids, hardness, house, judging, kinds, leaving, live, maker, marks,
+    puzzles, reasons, rules, strength, symmetry, texts, trees, widths,
 )
 from toldreasons.errors import PuzzleError
 
@@ -66,6 +66,24 @@ NAMES = {
     "grids": "run_lengths(values); painted_by(grid, values); roaded_by(grid, values); mined_by(grid, values);"
              " summed_by(lots, values); signed_by(size, values); shown(grid, values); read_shown(grid, text);"
              " lots_shown(grid, lots); read_lots(grid, text)",
+    "counting": "cell_table(puzzle, c); rule_table(puzzle, j); put_together(one, other); summed_off(table, c);"
+                " steps_of(puzzle, order); count_by(puzzle, order); widest_lot(puzzle, order); only_at(puzzle, c, values);"
+                " answer_of_number(puzzle, order, number); number_of_answer(puzzle, order, values);"
+                " shares_by(puzzle, order); sure_values(puzzle, order); is_one(puzzle, order);"
+                " judge_steps(puzzle, order, value)",
+    "marks": "new_board(puzzle); cut_puzzle(board); is_deed(board, value); done(board, deed); undone(board);"
+             " redone(board); wrong_marks(board); is_right(board); answers_left(board); is_finished(board);"
+             " next_hint(board, most); hinted(board, most); led_by_hints(board, most);"
+             " why_struck(board, cell, value, most); tale(board); progress(board); stuck(board, most); easiest(board)",
+    "deeds": "deed_text(deed); read_deed(text); log_text(deeds); read_log(text)",
+}
+
+CLASSES = {
+    (house, "House"): "__init__(self, puzzle); board(self); do(self, deed); undo(self); redo(self); hint(self, most);"
+                      " lead(self, most); deeds(self); twin(self); standing(self); set_part(self); wrong(self);"
+                      " finished(self); left(self); progress(self); easiest(self); told(self);"
+                      " reasons(self, cell, value, most)",
+    (desk, "Desk"): "__init__(self, puzzle, width); house(self); say(self, line)",
 }
 
 P, PART, QUESTION = made.KINDS, ((0, 1), (2, 0)), ("rule", 2)
@@ -165,6 +183,34 @@ CALLS += [
     (grids.shown, (2, 2), (1, None, 12, 0)), (grids.read_shown, (2, 2), "1 .\n12 0"), (grids.read_shown, (2, 2), ODD),
     (grids.lots_shown, (2, 2), ((0, 3), (1,))), (grids.read_lots, (2, 2), "ab\n.a"), (grids.read_lots, (2, 2), ODD),
 ]
+TABLE = counting.rule_table(made.TOLD, 0)
+STEPS = counting.steps_of(made.TOLD, (0, 2, 1))
+CALLS += [
+    (counting.cell_table, P, 1), (counting.rule_table, P, 6), (counting.put_together, TABLE, counting.cell_table(made.TOLD, 2)),
+    (counting.summed_off, TABLE, 1), (counting.steps_of, P, (3, 1, 0, 2)), (counting.count_by, P, (3, 1, 0, 2)),
+    (counting.widest_lot, made.TOLD, (0, 2, 1)), (counting.only_at, P, 1, [2, 0, 2]), (counting.only_at, P, 1, (2, 0)),
+    (counting.answer_of_number, made.FREE, (1, 0), 1), (counting.answer_of_number, made.FREE, (1, 0), 2),
+    (counting.number_of_answer, made.FREE, (1, 0), (2, 1)), (counting.number_of_answer, made.FREE, (1, 0), (2, 1, 0)),
+    (counting.shares_by, made.TOLD, (0, 2, 1)), (counting.sure_values, made.TOLD, (0, 2, 1)), (counting.is_one, made.TOLD, (0, 2, 1)),
+    (counting.judge_steps, made.TOLD, (0, 2, 1), STEPS), (counting.judge_steps, made.TOLD, (0, 2, 1), ODD),
+    (counting.judge_steps, made.TOLD, (0, 2, 1), (tuple(ODD[:3]),) * 3),
+]
+FIRST = marks.new_board(made.TOLD)
+LATE = marks.done(marks.undone(marks.done(marks.done(FIRST, ("strike", 2, 3)), ("set", 0, 2))), ("strike", 0, 2))
+BACK = marks.undone(LATE)
+CALLS += [
+    (marks.new_board, P), (marks.cut_puzzle, LATE), (marks.is_deed, LATE, ("raise", 0, 2)), (marks.is_deed, LATE, ODD),
+    (marks.is_deed, LATE, tuple(ODD[:3])), (marks.done, LATE, ("set", 2, 3)), (marks.done, LATE, ODD), (marks.undone, LATE),
+    (marks.undone, FIRST), (marks.redone, BACK), (marks.redone, LATE), (marks.wrong_marks, LATE), (marks.is_right, LATE),
+    (marks.answers_left, FIRST), (marks.is_finished, LATE), (marks.next_hint, LATE, 2), (marks.hinted, LATE, 2),
+    (marks.led_by_hints, FIRST, 2), (marks.why_struck, LATE, 1, 1, 2), (marks.why_struck, LATE, 0, 1, 2), (marks.tale, LATE),
+    (marks.progress, LATE), (marks.stuck, LATE, 2), (marks.easiest, LATE),
+    (deeds.deed_text, ("set", 5, 12)), (deeds.read_deed, "strike 0 2"), (deeds.read_deed, ODD), (deeds.log_text, LATE["log"]),
+    (deeds.read_log, "set 1 1\nstrike 0 3"), (deeds.read_log, ODD),
+]
+
+
+BOOLEANS = ("fits", "clashes", "reaches", "harder", "stuck")
 
 
 def told(call, given):
@@ -179,6 +225,13 @@ def is_plain(value):
     return all(is_plain(member) for member in value) if type(value) is tuple else type(value) in (int, str, bool, type(None))
 
 
+def kind_of(call):
+    """What a function is told to return: a board, a list, or else plain tuples and what they are made of."""
+    if call.__name__ in ("new_board", "done", "undone", "redone", "hinted", "led_by_hints"):
+        return dict
+    return list if call.__name__ in ("answers_left", "tale") else None
+
+
 class InterfaceTest(unittest.TestCase):
     def test_names_and_arguments(self):
         for name, listed in NAMES.items():
@@ -187,6 +240,21 @@ class InterfaceTest(unittest.TestCase):
                 function = getattr(module, entry.partition("(")[0])
                 self.assertEqual(function.__module__, f"toldreasons.{name}")
                 self.assertEqual(f"{function.__name__}{inspect.signature(function)}", entry)
+
+    def test_classes(self):
+        for (module, name), listed in CLASSES.items():
+            kind = getattr(module, name)
+            self.assertEqual(kind.__module__, module.__name__)
+            for entry in listed.split("; "):
+                method = vars(kind)[entry.partition("(")[0]]
+                self.assertEqual(f"{method.__name__}{inspect.signature(method)}", entry)
+
+    def test_errors(self):
+        told_parts = {"BadText": ["place"], "BadPuzzle": ["word"], "BadPaper": ["word"]}
+        for name in ("BadText", "BadPuzzle", "BadPaper", "NoAnswer", "TooMany", "BadDeed", "NoReason", "IsLost", "NothingDone"):
+            error = getattr(errors, name)(*told_parts.get(name, []))
+            self.assertEqual(type(error).__bases__, (PuzzleError,))
+            self.assertEqual(vars(error), {part: part for part in told_parts.get(name, [])})
 
     def test_each_name_is_called_below(self):
         called = {call.__name__ for call, *given in CALLS}
@@ -205,18 +273,26 @@ class NothingIsChangedTest(unittest.TestCase):
 
     def test_what_is_returned_is_plain(self):
         for call, *given in CALLS:
-            found = told(call, given)
-            if not isinstance(found, list):
-                self.assertTrue(is_plain(found), (call, found))
+            try:
+                found = call(*given)
+            except PuzzleError:
+                continue
+            if kind_of(call) is dict:
+                self.assertEqual(list(found), ["puzzle", "marks", "log", "back"])
+            if kind_of(call) is not None:
+                self.assertIs(type(found), kind_of(call), call)
+                found = tuple(found.values()) if isinstance(found, dict) else tuple(found)
+            self.assertTrue(is_plain(found), (call, found))
 
     def test_is_and_does_return_true_or_false(self):
         for call, *given in CALLS:
-            if call.__name__.startswith(("is_", "do_", "does_", "lies_")) or call.__name__ in ("fits", "clashes", "reaches", "harder"):
+            if call.__name__.startswith(("is_", "do_", "does_", "lies_")) or call.__name__ in BOOLEANS:
                 self.assertIs(type(call(*given)), bool, call)
 
     def test_a_tuple_may_stand_for_a_list(self):
         self.assertEqual(books.book_of(made.FREE, 2, ((1, 2),)), books.book_of(made.FREE, 2, [(1, 2)]))
         self.assertEqual(game.asked_out(made.TRIO, 2, (), (1, 3)), game.asked_out(made.TRIO, 2, (), [1, 3]))
+        self.assertEqual(counting.only_at(P, 1, (2, 0)), counting.only_at(P, 1, [2, 0]))
         asks = [(2, 1), (1, 0)]
         self.assertEqual(game.answered_out(made.PAIR, 1, (), tuple(asks)), game.answered_out(made.PAIR, 1, (), asks))
 
@@ -231,6 +307,7 @@ class NothingIsChangedTest(unittest.TestCase):
         self.assertIsNone(widths.judge_runaway(RING, 2, widths.runaway(RING, 2)))
         self.assertIsNone(leaving.judge_dead(P, leaving.dead_strikes(P)))
         self.assertIsNone(maker.judge_least(made.FREE, (1, 2), ONE, ((0, 1),)))
+        self.assertIsNone(counting.judge_steps(made.TOLD, (0, 2, 1), STEPS))
         self.assertIsNone(alike.judge_leading(made.TOLD, alike.led(made.TOLD, ROUND), ROUND))
 
 
