@@ -1,6 +1,5 @@
 """Deeds and logs as texts, and read again."""
 
-from toldreasons.errors import BadText
 from toldreasons.texts import Reader
 
 
@@ -33,9 +32,6 @@ def read_deed(text):
 
 def read_log(text):
     """The deeds that are written in any value, one a line; raises BadText where none are."""
-    # A reader takes what is no text for an empty one, but here this is the log without deeds.
-    if not isinstance(text, str):
-        raise BadText(0)
     if text == "":
         return ()
     reader = Reader(text)

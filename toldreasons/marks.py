@@ -146,7 +146,8 @@ def _least_strength(rules, ahead, behind):
     """The lesser one of the strengths 1 and 2 by which all that goes from marks to marks is struck; 0 if none is."""
     gone = [pair for pair in _pairs(ahead) if pair not in _pairs(behind)]
     came = [pair for pair in _pairs(behind) if pair not in _pairs(ahead)]
-    if len(gone) == 0 or len(came) > 0:
+    # Each deed strikes something or lets something stand.
+    if len(came) > 0:
         return 0
     for k in (1, 2):
         struck = struck_by((ahead, rules), k)
@@ -181,5 +182,5 @@ def stuck(board, most):
 def easiest(board):
     """The ascending cells in which the fewest values stand, of those with two or more."""
     sizes = [len(values) for values in board["marks"]]
-    least = min([size for size in sizes if size > 1], default=0)
-    return tuple([c for c, size in enumerate(sizes) if size == least and size > 1])
+    least = min([size for size in sizes if size > 1], default=None)
+    return tuple([c for c, size in enumerate(sizes) if size == least])

@@ -56,8 +56,8 @@ def _least_domains(flat):
     least = min([sorted(domains) for domains in came])
     found = []
     for way, domains in zip(ways, came):
-        if sorted(domains) == least:
-            found.extend([(cells, way) for cells in cells_between(domains, least)])
+        # Of a way to other domains no cells lead to the least ones.
+        found.extend([(cells, way) for cells in cells_between(domains, least)])
     return found
 
 
